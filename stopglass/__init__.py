@@ -1,0 +1,1 @@
+"""Stopglass: a window into made code that tells the text's own values."""
