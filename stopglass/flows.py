@@ -97,3 +97,19 @@ def firsts_behind(rows, begins):
         else:
             behind[k] = follower
     return behind
+
+
+# What is asked again and again of a program in order, by its functions' names; nothing of it hangs on the
+# list that was handed in, which may be changed behind.
+class Flows:
+    def __init__(self, program):
+        self.last = program[-1][0]
+        self.params_of = {}
+        self.rows_of = {}
+        self.names_in = {}
+        self.ways_in = {}
+        for function in program:
+            self.params_of[function[0]] = function[2]
+            self.rows_of[function[0]] = function[3]
+            self.names_in[function[0]] = names_of(function)
+            self.ways_in[function[0]] = ways(function[3])

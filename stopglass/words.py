@@ -5,6 +5,7 @@ WIDE = 281474976710656
 LETTERS = "abcdefghijklmnopqrstuvwxyz"
 FIGURES = "0123456789"
 TAKEN_WORDS = ("fn", "in", "new", "get", "put", "call", "out", "if", "while", "else", "end", "back")
+SIGNS = ("+", "-", "*", "/", "<", "=", "&", "|", "^")
 MOST_LETTERS = 8
 MOST_FIGURES = 15
 
