@@ -113,3 +113,9 @@ class Flows:
             self.rows_of[function[0]] = function[3]
             self.names_in[function[0]] = names_of(function)
             self.ways_in[function[0]] = ways(function[3])
+
+    def row_at(self, frame):
+        return self.rows_of[frame[0]][frame[1]]
+
+    def ways_at(self, frame):
+        return self.ways_in[frame[0]][frame[1]]

@@ -40,3 +40,9 @@ def put_through(one, news):
     if one[0] == "box":
         return news.get(one[1], one)
     return together(one[0], put_through(one[1], news), put_through(one[2], news))
+
+
+def boxes_of(one):
+    if is_leaf(one):
+        return [one[1]] if one[0] == "box" else []
+    return boxes_of(one[1]) + boxes_of(one[2])

@@ -25,8 +25,8 @@ def value(sign, one, other):
     return one ^ other
 
 
-# A walker's own frames are kept in stack, the outermost first; what they show, how a step is done and how a
-# value is told is each walker's own: chain_of, walk_on, tell.
+# A walker's own frames are kept in stack, the outermost first. What they show, what stands at a level, how a
+# value is told and how a step is done is each walker's own: chain_of, shown_at, tell, walk_on.
 class Walker:
     def __init__(self, program):
         self.flows = Flows(program)
@@ -66,23 +66,27 @@ class Walker:
     def chain_of(self, frame):
         raise NotImplementedError()
 
-    def walk_on(self):
+    # The function's name and row at this level, or None where it is not there.
+    def shown_at(self, level):
         raise NotImplementedError()
 
     def tell(self, level, name):
         raise NotImplementedError()
 
-    # Below 0 is asked for by itself: an index below 0 would count from the innermost frame.
-    def frame_at(self, level):
-        frames = self.frames()
-        if level < 0 or level >= len(frames):
+    def walk_on(self):
+        raise NotImplementedError()
+
+    def ask_for_level(self, level):
+        if self.shown_at(level) is None:
             raise NoName()
-        return frames[level]
 
     def ask_for_name(self, level, name):
-        function = self.frame_at(level)[0]
-        if name not in self.flows.names_in.get(function, ()):
+        self.ask_for_level(level)
+        if name not in self.names_at(level):
             raise NoName()
+
+    def names_at(self, level):
+        return self.flows.names_in.get(self.shown_at(level)[0], ())
 
     def send_out(self, number):
         self.sendings.append(number)
@@ -120,6 +124,12 @@ class TextWalker(Walker):
 
     def chain_of(self, frame):
         return [(frame.function, frame.row)]
+
+    def shown_at(self, level):
+        # Below 0 is asked for by itself: an index below 0 would count from the innermost frame.
+        if level < 0 or level >= len(self.stack):
+            return None
+        return self.chain_of(self.stack[level])[0]
 
     def tell(self, level, name):
         return self.stack[level].named[name]
