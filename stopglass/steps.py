@@ -23,8 +23,8 @@ def place_of(named, atom):
 
 
 def moved(flows, chain, way):
-    function, row = chain[-1]
-    return chain[:-1] + ((function, flows.ways_at(chain[-1])[way]),)
+    last = chain[-1]
+    return chain[:-1] + ((last[0], flows.ways_at(last)[way]),)
 
 
 def with_given(levels, name, place):

@@ -25,8 +25,8 @@ def value(sign, one, other):
     return one ^ other
 
 
-# A walker's own frames are kept in stack, the outermost first. What they show, what stands at a level, how a
-# value is told and how a step is done is each walker's own: chain_of, shown_at, tell, walk_on.
+# A walker's own frames are kept in stack, the outermost first. The base by itself shows, tells and does nothing:
+# each walker has its own chain_of, shown_at, tell and walk_on.
 class Walker:
     def __init__(self, program):
         self.flows = Flows(program)
@@ -64,17 +64,17 @@ class Walker:
         return self.walk_on()
 
     def chain_of(self, frame):
-        raise NotImplementedError()
+        return []
 
     # The function's name and row at this level, or None where it is not there.
     def shown_at(self, level):
-        raise NotImplementedError()
+        return None
 
     def tell(self, level, name):
-        raise NotImplementedError()
+        return None
 
     def walk_on(self):
-        raise NotImplementedError()
+        return None
 
     def ask_for_level(self, level):
         if self.shown_at(level) is None:
