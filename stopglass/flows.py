@@ -104,11 +104,15 @@ def firsts_behind(rows, begins):
 class Flows:
     def __init__(self, program):
         self.last = program[-1][0]
+        self.number_of = {}
+        self.folded_of = {}
         self.params_of = {}
         self.rows_of = {}
         self.names_in = {}
         self.ways_in = {}
-        for function in program:
+        for k, function in enumerate(program):
+            self.number_of[function[0]] = k
+            self.folded_of[function[0]] = function[1]
             self.params_of[function[0]] = function[2]
             self.rows_of[function[0]] = function[3]
             self.names_in[function[0]] = names_of(function)

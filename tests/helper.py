@@ -150,6 +150,7 @@ class Nested:
 
 NAMES = ("a", "b", "c", "d")
 FIELDS = ("f", "g")
+FUNCTIONS = ("one", "two", "three", "four", "five")
 
 
 def some_atom(rng):
@@ -193,14 +194,49 @@ def some_block(rng, callees, most, depth):
     return rows
 
 
-def some_program(rng, most=4, depth=2, functions=3):
+def some_program(rng, most=4, depth=2, functions=3, folded=0.5, least=1):
     """A program in order; any function calls any, so that a walk of it may never end."""
-    heads = [(name, rng.randint(0, 3)) for name in ("one", "two", "three")[:rng.randint(1, functions)]]
+    heads = [(name, rng.randint(0, 3)) for name in FUNCTIONS[:rng.randint(least, functions)]]
     program = []
     for name, count in heads:
         rows = some_block(rng, heads, most, depth) + [("back", some_atom(rng))]
-        program.append((name, rng.random() < 0.5, NAMES[:count], tuple(rows)))
+        program.append((name, rng.random() < folded, NAMES[:count], tuple(rows)))
     return program
+
+
+def some_long_block(rng, names, callees, length):
+    rows, opened = [], 0
+    while len(rows) + opened < length:
+        chance = rng.random()
+        if chance < 0.12 and opened < 4:
+            rows.append((rng.choice(("if", "while")), rng.choice(names)))
+            opened += 1
+        elif chance < 0.24 and opened:
+            rows.append(("end",))
+            opened -= 1
+        elif chance < 0.32 and callees:
+            callee, count = rng.choice(callees)
+            rows.append(("call", rng.choice(names), callee, tuple(rng.choice(names) for _ in range(count))))
+        else:
+            name, one, other = (rng.choice(names) for _ in range(3))
+            rows.append(rng.choice((("op", name, rng.choice(SIGNS), one, other),) * 4 + (
+                ("copy", name, one), ("get", name, one, "f"), ("put", one, "f", other), ("new", name), ("out", one))))
+    return tuple(rows + [("end",)] * opened + [("back", rng.choice(names))])
+
+
+def some_big_program(rng):
+    """Twelve functions of twenty-four names and six params, each of which calls some of those ahead of it."""
+    program = []
+    lengths = rng.randint(3, 9), rng.randint(8, 16)
+    for k in range(11):
+        name, names = "f" + "abcdefghijk"[k], [letter + "abcdefghijk"[k] for letter in "abcdefghijklmnopqrstuvwx"]
+        callees = [(function[0], 6) for function in program[-4:]]
+        rows = some_long_block(rng, names, callees, lengths[k > 5])
+        program.append((name, rng.random() < 0.8, tuple(names[:6]), rows))
+    # The last one reads and gives all of its names.
+    names = ["x" + letter for letter in "abcdefghijklmnopqrstuvwx"]
+    rows = tuple(("op", name, "+", name, 1) for name in names) + some_long_block(rng, names, callees, 12)
+    return program + [("main", False, tuple(names[:6]), rows)]
 
 
 def some_args(rng, program):
