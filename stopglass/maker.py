@@ -7,10 +7,8 @@ from stopglass.flows import Flows
 from stopglass.homes import homes_in
 from stopglass.places import OWN_SIGN, behind_in, names_at_last
 from stopglass.plans import heads, is_in_place, needs_in, plan_in
-from stopglass.reckonings import boxes_of, leaves
+from stopglass.reckonings import MOST_LEAVES, boxes_of, leaves
 from stopglass.steps import asked_act
-
-MOST_LEAVES = 8
 
 
 def make(program):

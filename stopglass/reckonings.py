@@ -2,6 +2,9 @@
 
 from stopglass.walkers import value
 
+# Of a reckoning that is a place; one that is set or done may have more.
+MOST_LEAVES = 8
+
 
 def is_leaf(one):
     return one[0] in ("box", "num")
